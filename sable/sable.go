@@ -3,6 +3,7 @@ package sable
 
 import (
 	"sable/api"
+	"sable/program"
 	"sable/scene"
 )
 
@@ -13,7 +14,10 @@ func Encode(s api.Scene) (string, api.Errno) { return scene.Write(s) }
 func Decode(b string) (api.Scene, api.Errno) { return scene.Read(b) }
 
 // Check tells what is wrong first with a source, and where (P4).
-func Check(source string) (api.Errno, int) { return api.OK, 0 }
+func Check(source string) (api.Errno, int) {
+	_, e, place := program.Read(source)
+	return e, place
+}
 
 // Paint paints a scene (P5).
 func Paint(s api.Scene) (api.Result, api.Errno, int) { return api.Result{}, api.OK, 0 }
