@@ -3,6 +3,7 @@ package sable
 
 import (
 	"sable/api"
+	"sable/paint"
 	"sable/program"
 	"sable/scene"
 )
@@ -20,4 +21,4 @@ func Check(source string) (api.Errno, int) {
 }
 
 // Paint paints a scene (P5).
-func Paint(s api.Scene) (api.Result, api.Errno, int) { return api.Result{}, api.OK, 0 }
+func Paint(s api.Scene) (api.Result, api.Errno, int) { return paint.Scene(s) }
